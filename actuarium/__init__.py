@@ -1,0 +1,1 @@
+"""Actuarium: payments, lives, claims and ruin with exact answers and certificates."""

@@ -1,0 +1,145 @@
+"""What several tests use: values of all kinds, and slow and simple second ways."""
+
+import copy
+import itertools
+from fractions import Fraction
+from math import gcd
+
+SIMPLE = [
+    0, 1, -1, 2, 7, 39, 40, 41, 60, 61, 1000, 1001, -1000, -1001, 10**6, 10**6 + 1, -10**6, -10**6 - 1, 10**5000,
+    -10**5000, "", "a", "0", "1", "(0, 1)", "5, 0", True, False, None, (), [], {},
+]
+PAIRS = [
+    (0, 1), (0, 2), (1, 1), (2, 1), (1, 2), (2, 4), (-1, 2), (-2, 4), (1, -2), (-1, -2), (1, 0), (0, 0), (0, -1),
+    (-1, 1), (-2, 1), (-999, 1000), (-1000, 1000), (-1000, 999), (-1000, 1001), (1000, 1), (1001, 1), (1, 1000),
+    (1, 1001), (10**6, 1), (10**6 + 1, 1), (-10**6, 1), (-10**6 - 1, 1), (1, 10**6), (1, 10**6 + 1), (0, True),
+    (True, 1), (False, 1), (True, True), (1, "2"), ("1", 2), (None, 1), (1, None), (1, (2,)), (1, [2]), (1, {}),
+    (1, 2, 3), (1,), ((0, 1), (0, 1)),
+]
+NESTED = [
+    (True,), (False,), (None,), ("a",), ((),), ([],), ({},), ((1,),), ([1],), (1, True), (1, 2, None), (0, 1, "2"),
+    [0], [1, 0], [0, 1], [(0, 1)], [True], [None], [[]], [{}], {0: 1}, {"a": 1}, {"a": (0, 1)}, {1: [0, {"b": None}]},
+    ((0, 1),), ((1, 2), (1, 1)), ((True, 1),), ([1, 2],), ((1, 2), [1, 1]), (((0, 1),),), (1, (2, (3, [4, {5: 6}]))),
+    (1,) * 40, (1,) * 41, (0,) * 40, (0,) * 41, (1,) * 39 + (True,), (10**6,) * 3, (10**6 + 1,), (-10**6,), (-10**6 - 1,),
+    (2, 1, 0), (2, 1, False), (True, 0), [2, 1, 0], (2, 1, 1), (2, 3, 0), (1, 0, 0), (0, 0), (0,), (1, 0), (10**6 + 1, 0),
+    (-1, 0), (2, -1, 0), (2, (1,), 0), (2, "1", 0), (2, None, 0), (40,) * 40 + (0,), (40,) * 39 + (0,),
+]
+ANYTHING = SIMPLE + PAIRS + NESTED
+
+
+def is_int(value, low=None, high=None):
+    if type(value) is not int:
+        return False
+    return (low is None or value >= low) and (high is None or value <= high)
+
+
+def is_ratio(value):
+    if type(value) is not tuple or len(value) != 2 or not is_int(value[0]) or not is_int(value[1]):
+        return False
+    return value[1] > 0 and gcd(*value) == 1
+
+
+def is_rate(value):
+    return is_ratio(value) and is_int(value[0], -1000, 1000) and value[1] <= 1000 and value[0] + value[1] > 0
+
+
+def is_payments(value):
+    return type(value) is tuple and len(value) <= 40 and all(is_int(entry, -10**6, 10**6) for entry in value)
+
+
+def is_plain(value):
+    return is_payments(value) and all(entry >= 0 for entry in value) and any(value)
+
+
+def is_lives(value):
+    if type(value) is not tuple or not 2 <= len(value) <= 40 or not all(is_int(entry, 0, 10**6) for entry in value):
+        return False
+    return value == tuple(sorted(value, reverse=True)) and value[0] > 0 and value[-2] > 0 and value[-1] == 0
+
+
+def is_time(low, high):
+    return lambda value: is_int(value, low, high)
+
+
+def fraction(ratio):
+    return Fraction(*ratio)
+
+
+def ratio(number):
+    number = Fraction(number)
+    return (number.numerator, number.denominator)
+
+
+def grown(number, rate, years):
+    """Move an amount by years one by one, back if they are negative."""
+    number = Fraction(number)
+    for _ in range(abs(years)):
+        number = number * (1 + fraction(rate)) if years > 0 else number / (1 + fraction(rate))
+    return number
+
+
+def value_of(payments, rate, time=0):
+    return sum((grown(entry, rate, time - at) for at, entry in enumerate(payments)), Fraction(0))
+
+
+def people(lives, age):
+    """List all who live at an age by the number of whole years that each one still completes."""
+    found = []
+    for later in range(age, len(lives) - 1):
+        found.extend([later - age] * (lives[later] - lives[later + 1]))
+    return found
+
+
+class Checks:
+    """Checks that test cases inherit."""
+
+    def same(self, found, wanted):
+        """Equal, and of the same kinds throughout: 1 is not True, and no list is a tuple."""
+        self.assertEqual(repr(found), repr(wanted))
+
+    def is_told(self, error, function, *arguments, **fields):
+        """The call raises exactly this error with these fields, and leaves its arguments as they were."""
+        before = copy.deepcopy(arguments)
+        with self.assertRaises(error) as caught:
+            function(*arguments)
+        self.assertIs(type(caught.exception), error, (function, short(arguments)))
+        for name, value in fields.items():
+            self.same(getattr(caught.exception, name), value)
+        self.assertEqual(arguments, before)
+
+    def refuses(self, function, arguments, at, error, allowed):
+        """Every value of every kind in the place of one argument raises the error, unless it is allowed."""
+        refused = 0
+        for value in ANYTHING:
+            if not allowed(value):
+                changed = [*arguments[:at], value, *arguments[at + 1:]]
+                with self.subTest(function=function.__name__, at=at, value=short(value)):
+                    self.is_told(error, function, *changed)
+                refused += 1
+        self.assertGreater(refused, len(ANYTHING) // 3)
+
+    def first_error_wins(self, function, arguments, faults):
+        """With any choice of bad arguments at once the error of the leftmost one is raised."""
+        spots = range(len(faults))
+        for many in range(1, len(faults) + 1):
+            for chosen in itertools.combinations(spots, many):
+                changed = [faults[at][0] if at in chosen else arguments[at] for at in spots]
+                with self.subTest(function=function.__name__, chosen=chosen):
+                    self.is_told(faults[chosen[0]][1], function, *changed)
+
+    def keeps_arguments(self, function, *arguments):
+        """The call gives the same answer twice and leaves its arguments as they were."""
+        before = copy.deepcopy(arguments)
+        first = function(*arguments)
+        self.same(function(*arguments), first)
+        self.assertEqual(repr(arguments), repr(before))
+        return first
+
+
+def short(value):
+    """A value for a message, without its very long integers, which Python does not print."""
+    if type(value) is int and abs(value) > 10**100:
+        return "a long integer"
+    if type(value) in (tuple, list):
+        return [short(entry) for entry in value]
+    return value
