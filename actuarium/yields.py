@@ -14,7 +14,9 @@ from actuarium.ratios import check_rate, check_time, growth
 
 def sign_of(number):
     """Return -1, 0 or 1 as a number is negative, 0 or positive."""
-    return (number > 0) - (number < 0)
+    if number == 0:
+        return 0
+    return 1 if number > 0 else -1
 
 
 def primitive(many):
@@ -57,8 +59,9 @@ def remainder(one, other):
 def quotient(one, other):
     """Return a primitive polynomial divided by a primitive one that divides it."""
     rest = list(one)
-    found = [0] * (len(one) - len(other) + 1)
-    for lowest in reversed(range(len(found))):
+    steps = len(one) - len(other) + 1
+    found = [0] * steps
+    for lowest in reversed(range(steps)):
         found[lowest] = rest[lowest + len(other) - 1] // other[-1]
         for power, factor in enumerate(other):
             rest[lowest + power] -= found[lowest] * factor
@@ -136,7 +139,8 @@ def yield_count(payments):
 
 def reaches(many, top, bottom):
     """Tell whether the only root above 0 of a polynomial is at least a ratio not below 0."""
-    return top == 0 or sign_at(many, top, bottom) != sign_of(many[-1])
+    # The root is not repeated: below it the sign is the other one, above it that of the highest power.
+    return sign_at(many, top, bottom) != sign_of(many[-1])
 
 
 def yield_floor(payments, places):

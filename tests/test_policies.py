@@ -148,6 +148,11 @@ class PoliciesTest(Checks, unittest.TestCase):
                    paid_up(policy, 0)],
                   [(0, 1), (100, 1), ((0, 1),), ((0, 1),), (((0, 1), (100, 1)),), (0, 1)])
 
+    def test_paid_by_the_insured(self):
+        policy = ((6, 0), 0, (0, 1), (-3,), (2,), (4, 1), 1)
+        self.same([worth(policy), fair_premium(policy), paid_up(policy, 0)], [(-5, 1), (-1, 1), (5, 1)])
+        self.same(paid_up(((6, 0), 0, (0, 1), (-3,), (2,), (-4, 1), 1), 0), (-3, 1))
+
     def test_nothing_paid(self):
         policy = ((2, 1, 0), 0, (1, 10), (), (), (0, 1), 1)
         self.same([worth(policy), fair_premium(policy), reserves(policy)], [(0, 1), (0, 1), ((0, 1), (0, 1))])

@@ -207,7 +207,20 @@ class SplitTest(Checks, unittest.TestCase):
             swapped[at - 1], swapped[at] = swapped[at], swapped[at - 1]
             self.shows(tuple(swapped), False)
 
+    def test_parts_that_are_not_positive(self):
+        whole = ((1, 1, (2, 1)), (2, 0, (2, 1)), (2, 4, (2, 1)), (3, 3, (2, 1)))
+        self.shows(whole, True)
+        self.shows(((1, 0, (0, 1)), *whole), False)
+        self.shows((*whole, (3, 4, (0, 1))), False)
+        # All sums and all mean times of these are right.
+        self.shows(((1, 1, (2, 1)), (2, 0, (4, 3)), (2, 1, (1, 1)), (2, 3, (-1, 3)), (2, 4, (2, 1)), (3, 0, (2, 3)),
+                    (3, 1, (-1, 1)), (3, 3, (7, 3))), False)
+
     def test_times_beyond(self):
+        whole = ((1, 1, (2, 1)), (2, 0, (2, 1)), (2, 4, (2, 1)), (3, 3, (2, 1)))
+        self.shows(((-1, -1, (1, 1)), *whole), False)
+        self.shows((*whole, (4, 5, (1, 1))), False)
+        self.shows((*whole, (40, 40, (1, 1))), False)
         self.same(shows_split((2,), (2,), (0, 1), ((0, 0, (2, 1)),)), True)
         self.same(shows_split((2, 0), (2,), (0, 1), ((0, 0, (2, 1)),)), True)
         self.same(shows_split((2,), (2,), (0, 1), ((0, 0, (2, 1)), (1, 1, (1, 1)))), False)
