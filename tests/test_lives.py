@@ -114,6 +114,8 @@ class RatesTest(Checks, unittest.TestCase):
         self.is_told(TooMany, from_rates, ((1, 997), (1, 991), (1, 7), last), most=10**6)
         self.is_told(TooMany, from_rates, ((1, 1000),) * 38 + (last,), most=10**6)
         self.assertEqual(from_rates(((1, 997), (1, 991), last))[0], 997 * 991)
+        self.is_told(BadRates, from_rates, ((1, 1000),) * 38, index=37)
+        self.is_told(BadRates, from_rates, ((1, 1000),) * 30 + (None, last), index=30)
 
     def test_first_entries_around_the_limit(self):
         chance = random.Random(5)

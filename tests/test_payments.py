@@ -78,6 +78,8 @@ class ShiftTest(Checks, unittest.TestCase):
         self.is_told(TooMany, shifted, (0,) * 40, 1, most=40)
         self.is_told(TooMany, shifted, (0,) * 21, 20, most=40)
         self.is_told(TooMany, shifted, (0,) * 40, 40, most=40)
+        self.is_told(BadTime, shifted, (0,) * 40, 41)
+        self.is_told(BadPayments, shifted, (0,) * 41, 40)
         self.same(shifted((0,) * 20, 20), (0,) * 40)
         self.same(shifted((), 40), (0,) * 40)
         self.same(shifted((4,) * 40, 0), (4,) * 40)
