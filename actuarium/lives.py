@@ -3,11 +3,10 @@
 from math import lcm
 
 from actuarium.errors import BadAge, BadLives, BadRates, TooMany
-from actuarium.ratios import ONE, check_time, is_between, is_small_ratio, make_ratio, multiplied
+from actuarium.ratios import ONE, check_time, is_between, is_chance, make_ratio, multiplied
 
 MOST_AGES = 40
 MOST_LIVES = 1000000
-MOST_BOTTOM = 1000
 
 
 def is_life_table(value):
@@ -35,6 +34,11 @@ def check_age(lives, age):
     """Raise BadAge for a value that is not an age of a life table."""
     if not is_age(lives, age):
         raise BadAge("nobody of the life table has this age")
+
+
+def span_of(lives, age):
+    """Return the number of ages from an age to the last one at which somebody lives."""
+    return len(lives) - 1 - age
 
 
 def living_at(lives, age):
@@ -81,7 +85,7 @@ def check_rates(rates):
     if not isinstance(rates, tuple) or not 1 <= len(rates) < MOST_AGES:
         raise BadRates(None)
     for index, rate in enumerate(rates):
-        if not is_small_ratio(rate, 0, 1, MOST_BOTTOM):
+        if not is_chance(rate):
             raise BadRates(index)
         if (rate == ONE) != (index == len(rates) - 1):
             raise BadRates(index)

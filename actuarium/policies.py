@@ -1,7 +1,7 @@
 """Policies on one life: what they are worth, and what is kept for them."""
 
 from actuarium.errors import BadPolicy, BadPremium, NoPremium
-from actuarium.lives import check_age, check_lives, dying_part
+from actuarium.lives import check_age, check_lives, dying_part, span_of
 from actuarium.payments import check_payments
 from actuarium.ratios import ONE, ZERO, discount, divided, growth, minus, multiplied, plus
 from actuarium.ratios import check_rate, check_time, is_small_ratio
@@ -28,11 +28,6 @@ def check_policy(policy):
     check_payments(dead)
     check_premium(premium)
     check_time(years, 0, MOST_YEARS)
-
-
-def span_of(lives, age):
-    """Return the number of ages from an age to the last one at which somebody lives."""
-    return len(lives) - 1 - age
 
 
 def entry_of(payments, time):
@@ -74,6 +69,11 @@ def without_premiums(policy):
     return (*policy[:6], 0)
 
 
+def premiums_of_one(policy):
+    """Return the policy that pays 1 whenever a policy's premium is due."""
+    return (*policy[:3], (1,) * policy[6], (), ZERO, 0)
+
+
 def worth(policy):
     """Return the expected value at time 0 of all that is paid less all premiums."""
     check_policy(policy)
@@ -83,11 +83,9 @@ def worth(policy):
 def fair_premium(policy):
     """Return the premium with which the worth of the policy is 0."""
     check_policy(policy)
-    years = policy[6]
-    if years == 0:
+    if policy[6] == 0:
         raise NoPremium("no premium is ever paid")
-    ones = (*policy[:3], (1,) * years, (), ZERO, 0)
-    return divided(reserve_list(without_premiums(policy))[0], reserve_list(ones)[0])
+    return divided(reserve_list(without_premiums(policy))[0], reserve_list(premiums_of_one(policy))[0])
 
 
 def reserves(policy):

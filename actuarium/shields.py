@@ -2,8 +2,8 @@
 
 from actuarium.errors import NotPlain
 from actuarium.payments import MOST_PAYMENTS, check_payments
-from actuarium.ratios import ZERO, discount, divided, is_less, minus, multiplied, plus, power, total
-from actuarium.ratios import check_rate, is_between, is_ratio
+from actuarium.ratios import ZERO, discount, divided, earliest, is_less, minus, multiplied, plus, power
+from actuarium.ratios import are_triples, check_rate, sum_above, total
 
 
 def check_plain(payments):
@@ -27,28 +27,23 @@ def values_of(payments, rate):
     return values + [ZERO] * (MOST_PAYMENTS - len(values))
 
 
-def time_above(values, edge):
-    """Return the sum of the values times the time above an edge."""
-    return total([multiplied((time - edge, 1), value) for time, value in enumerate(values) if time > edge])
-
-
 def mean_time(payments, rate):
     """Return the mean of the times of plain payments, weighed by their values."""
     check_plain(payments)
     check_rate(rate)
     values = values_of(payments, rate)
-    return divided(time_above(values, 0), total(values))
+    return divided(sum_above(values, 0), total(values))
 
 
 def flaw_of(one, other):
     """Return why values are no shield for other ones, () if they are."""
     if total(one) != total(other):
         return ("sum",)
-    if time_above(one, 0) != time_above(other, 0):
+    if sum_above(one, 0) != sum_above(other, 0):
         return ("mean",)
     # All convex functions of whole times are sums of a straight line and positive multiples of times above edges.
     for edge in range(MOST_PAYMENTS):
-        if is_less(time_above(one, edge), time_above(other, edge)):
+        if is_less(sum_above(one, edge), sum_above(other, edge)):
             return ("bend", edge)
     return ()
 
@@ -57,16 +52,6 @@ def is_shield(one, other, rate):
     """Tell whether the first payments are a shield for the second ones."""
     check_pair(one, other, rate)
     return flaw_of(values_of(one, rate), values_of(other, rate)) == ()
-
-
-def earliest(values, wanted):
-    """Return the parts of the values, the earliest ones first, that sum to a ratio."""
-    taken = []
-    for value in values:
-        part = value if is_less(value, wanted) else wanted
-        taken.append(part)
-        wanted = minus(wanted, part)
-    return taken
 
 
 def least_of(ratios):
@@ -83,7 +68,7 @@ def share_around(values, time, wanted):
     # Neighbouring parts leave the most spread to the values that remain,
     # so that these stay a shield for what is still to be split.
     taken = earliest(values, wanted)
-    lacking = minus(multiplied((time, 1), wanted), time_above(taken, 0))
+    lacking = minus(multiplied((time, 1), wanted), sum_above(taken, 0))
     while lacking != ZERO:
         low = min(at for at, part in enumerate(taken) if part != ZERO)
         high = min(at for at, part in enumerate(taken) if at > low and part != values[at])
@@ -116,22 +101,6 @@ def shield_paper(one, other, rate):
     return split_of(first, second)
 
 
-def is_triple(value, one, other):
-    """Tell whether a value is a time of the second payments, a time of the first ones and a positive ratio."""
-    if not isinstance(value, tuple) or len(value) != 3:
-        return False
-    start, goal, part = value
-    if not is_between(start, 0, len(other) - 1) or not is_between(goal, 0, len(one) - 1):
-        return False
-    return is_ratio(part) and part[0] > 0
-
-
-def is_ascending(triples):
-    """Tell whether the pairs of times of triples ascend, none of them twice."""
-    pairs = [(start, goal) for start, goal, _ in triples]
-    return all(pair < later for pair, later in zip(pairs, pairs[1:]))
-
-
 def sums_fit(one, other, triples):
     """Tell whether triples have the sums and the mean times of a split."""
     for time, value in enumerate(other):
@@ -149,8 +118,6 @@ def sums_fit(one, other, triples):
 def shows_split(one, other, rate, value):
     """Tell whether a value is a split of the second payments over the first ones."""
     check_pair(one, other, rate)
-    if not isinstance(value, tuple) or not all(is_triple(triple, one, other) for triple in value):
-        return False
-    if not is_ascending(value):
+    if not are_triples(value, len(other), len(one)):
         return False
     return sums_fit(values_of(one, rate), values_of(other, rate), value)

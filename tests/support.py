@@ -2,8 +2,12 @@
 
 import copy
 import itertools
+import random
 from fractions import Fraction
 from math import gcd
+
+from actuarium.errors import (
+    BadAge, BadClaims, BadLives, BadPayments, BadPolicy, BadPremium, BadRate, BadTime)
 
 SIMPLE = [
     0, 1, -1, 2, 7, 39, 40, 41, 60, 61, 1000, 1001, -1000, -1001, 10**6, 10**6 + 1, -10**6, -10**6 - 1, 10**5000,
@@ -23,6 +27,8 @@ NESTED = [
     (1,) * 40, (1,) * 41, (0,) * 40, (0,) * 41, (1,) * 39 + (True,), (10**6,) * 3, (10**6 + 1,), (-10**6,), (-10**6 - 1,),
     (2, 1, 0), (2, 1, False), (True, 0), [2, 1, 0], (2, 1, 1), (2, 3, 0), (1, 0, 0), (0, 0), (0,), (1, 0), (10**6 + 1, 0),
     (-1, 0), (2, -1, 0), (2, (1,), 0), (2, "1", 0), (2, None, 0), (40,) * 40 + (0,), (40,) * 39 + (0,),
+    (1,) * 9, (1,) * 10, (1,) * 13, (1,) * 14, (0,) * 12 + (1,), (1,) * 12 + (0,), (1001,), (1000,), (0, 1001, 1), (1, -1, 1),
+    (1, 1, True), (1, False, 1), (1, 1, None), (1, "1", 1), (1, (1,), 1), [1, 1], (1, [1]), {1: 1},
 ]
 ANYTHING = SIMPLE + PAIRS + NESTED
 
@@ -57,6 +63,24 @@ def is_lives(value):
     return value == tuple(sorted(value, reverse=True)) and value[0] > 0 and value[-2] > 0 and value[-1] == 0
 
 
+def is_chance(value):
+    return is_ratio(value) and 0 <= value[0] <= value[1] <= 1000
+
+
+def is_level(value):
+    return is_chance(value) and value[0] < value[1]
+
+
+def is_premium(value):
+    return is_ratio(value) and abs(fraction(value)) <= 10**6 >= value[1]
+
+
+def is_claims(value, most=13):
+    if type(value) is not tuple or not 1 <= len(value) <= most:
+        return False
+    return all(is_int(weight, 0, 1000) for weight in value) and value[-1] != 0
+
+
 def is_time(low, high):
     return lambda value: is_int(value, low, high)
 
@@ -68,6 +92,49 @@ def fraction(ratio):
 def ratio(number):
     number = Fraction(number)
     return (number.numerator, number.denominator)
+
+
+def ratios(numbers):
+    return tuple(ratio(number) for number in numbers)
+
+
+def outcomes(claims):
+    """List the pairs of all amounts that a claim can have and their chances."""
+    return [(amount, Fraction(weight, sum(claims))) for amount, weight in enumerate(claims) if weight]
+
+
+def rows_of_claims(claims, many):
+    """Go through all rows of so many claims, each one with its chance."""
+    for row in itertools.product(outcomes(claims), repeat=many):
+        chance = Fraction(1)
+        for _, part in row:
+            chance *= part
+        yield [amount for amount, _ in row], chance
+
+
+def mean(claims):
+    return sum((amount * chance for amount, chance in outcomes(claims)), Fraction(0))
+
+
+def above(claims, edge):
+    """The expected part of a claim above an edge, which may be any number."""
+    return sum((chance * max(0, amount - edge) for amount, chance in outcomes(claims)), Fraction(0))
+
+
+def places(value):
+    """Go through the paths to all values that are nested in tuples, the whole one first."""
+    yield ()
+    if type(value) is tuple:
+        for at, entry in enumerate(value):
+            for path in places(entry):
+                yield (at, *path)
+
+
+def replaced(value, path, new):
+    """Return a nested tuple with another value at the end of a path."""
+    if not path:
+        return new
+    return (*value[:path[0]], replaced(value[path[0]], path[1:], new), *value[path[0] + 1:])
 
 
 def grown(number, rate, years):
@@ -88,6 +155,29 @@ def people(lives, age):
     for later in range(age, len(lives) - 1):
         found.extend([later - age] * (lives[later] - lives[later + 1]))
     return found
+
+
+GOOD_POLICY = ((4, 2, 1, 0), 1, (1, 10), (1, 2), (3, 4), (1, 2), 2)
+POLICY_PARTS = [
+    (BadLives, is_lives, (2, 1)), (BadAge, is_time(0, 2), 3), (BadRate, is_rate, (-1, 1)), (BadPayments, is_payments, (True,)),
+    (BadPayments, is_payments, [1]), (BadPremium, is_premium, (2, 4)), (BadTime, is_time(0, 40), 41),
+]
+
+
+def entry_of(payments, time):
+    return Fraction(payments[time]) if time < len(payments) else Fraction(0)
+
+
+def some_policies(seed, tables, rates):
+    """Go through policies at a first, a middle and the last age of each table, at each rate."""
+    chance = random.Random(seed)
+    for lives in tables:
+        for age in sorted({0, (len(lives) - 2) // 2, len(lives) - 2}):
+            for rate in rates:
+                alive = tuple(chance.randint(-50, 100) for _ in range(chance.choice((0, 1, 3, 40))))
+                dead = tuple(chance.randint(-50, 1000) for _ in range(chance.choice((0, 1, 3, 40))))
+                premium = ratio(Fraction(chance.randint(-50, 300), chance.choice((1, 2, 7, 1000))))
+                yield (lives, age, rate, alive, dead, premium, chance.choice((0, 1, 2, 3, 40)))
 
 
 class Checks:
@@ -117,6 +207,32 @@ class Checks:
                     self.is_told(error, function, *changed)
                 refused += 1
         self.assertGreater(refused, len(ANYTHING) // 3)
+
+    def refuses_policies(self, function, *rest):
+        """Whatever is no policy, as a whole or in one of its parts, raises the error of its first bad part."""
+        wholes = [list(GOOD_POLICY), GOOD_POLICY[:6], (*GOOD_POLICY, 0), (GOOD_POLICY,), dict(enumerate(GOOD_POLICY))]
+        for value in ANYTHING + wholes:
+            with self.subTest(function=function.__name__, value=short(value)):
+                self.is_told(BadPolicy, function, value, *rest)
+        for at, (error, allowed, bad) in enumerate(POLICY_PARTS):
+            for value in ANYTHING:
+                if not allowed(value):
+                    with self.subTest(function=function.__name__, at=at, value=short(value)):
+                        self.is_told(error, function, replaced(GOOD_POLICY, (at,), value), *rest)
+            for second in range(at, 7):
+                policy = replaced(replaced(GOOD_POLICY, (second,), POLICY_PARTS[second][2]), (at,), bad)
+                self.is_told(error, function, policy, *rest)
+            self.is_told(error, function, (*GOOD_POLICY[:at], *[part[2] for part in POLICY_PARTS[at:]]), *rest)
+
+    def refuses_claims(self, function, arguments, at, most=13):
+        """Whatever is no claims in the place of one argument raises BadClaims."""
+        self.refuses(function, arguments, at, BadClaims, lambda value: is_claims(value, most))
+        good = (1, 2, 3)
+        for path in places(good):
+            for value in ANYTHING:
+                changed = replaced(good, path, value)
+                if not is_claims(changed, most):
+                    self.is_told(BadClaims, function, *replaced(tuple(arguments), (at,), changed))
 
     def first_error_wins(self, function, arguments, faults):
         """With any choice of bad arguments at once the error of the leftmost one is raised."""

@@ -43,6 +43,16 @@ INTERFACE = {
                 "shows_split(one, other, rate, value)"],
     "policies": ["worth(policy)", "fair_premium(policy)", "reserves(policy)", "fund(policy)", "split_premiums(policy)",
                  "paid_up(policy, time)"],
+    "changes": ["worth_with_lapses(policy, lapses, given)", "profits(policy, lives, rate)", "critical(policy, lives, rate)"],
+    "losses": ["losses(policy)", "variance(policy)", "chance_of_loss(policy)", "safe_premium(policy, chance)",
+               "year_variances(policy)"],
+    "states": ["state_values(model, rate)", "chances_at(model, start)", "spread_of(model, rate, start)",
+               "first_chance(model, start, goal)"],
+    "companions": ["alive_counts(companions, years)", "joint_sums(companions, years)",
+                   "value_of_counts(companions, rate, amounts)", "dies_first(companions, index)",
+                   "left_alone(companions, rate, index)"],
+    "claims": ["mean_claim(claims)", "summed(claims, times)", "random_sum(counts, claims)",
+               "binomial_sum(many, chance, claims, most)", "waiting_sum(many, chance, claims, most)"],
 }
 
 

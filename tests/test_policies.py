@@ -1,14 +1,12 @@
 """Points 9 and 10: policies on one life."""
 
-import random
 import unittest
 from fractions import Fraction
 
-from actuarium.errors import (
-    BadAge, BadLives, BadPayments, BadPolicy, BadPremium, BadRate, BadTime, NoPremium)
+from actuarium.errors import BadAge, BadLives, BadPremium, BadTime, NoPremium
 from actuarium.policies import fair_premium, fund, paid_up, reserves, split_premiums, worth
 from tests.support import (
-    ANYTHING, Checks, fraction, grown, is_lives, is_payments, is_rate, is_ratio, is_time, people, ratio, short)
+    GOOD_POLICY, Checks, entry_of, fraction, grown, is_ratio, is_time, people, ratio, some_policies)
 
 FUNCTIONS = [worth, fair_premium, reserves, fund, split_premiums]
 LONGEST = tuple(range(200, 161, -1)) + (0,)
@@ -16,19 +14,15 @@ TABLES = [(1, 0), (7, 0), (2, 1, 0), (4, 2, 1, 0), (10, 8, 3, 0), (5, 5, 5, 1, 0
 RATES = [(0, 1), (1, 10), (1, 1), (-1, 4), (-999, 1000), (37, 1000), (1000, 1)]
 
 
-def entry(payments, time):
-    return Fraction(payments[time]) if time < len(payments) else Fraction(0)
-
-
 def flows(policy, completed, start=0, premiums=True):
     """List the pairs (time, amount) from a time on for somebody who still completes so many years."""
     lives, age, rate, alive, dead, premium, years = policy
     found = []
     for time in range(start, completed + 1):
-        found.append((time, entry(alive, time)))
+        found.append((time, entry_of(alive, time)))
         if premiums and time < years:
             found.append((time, -fraction(premium)))
-    found.append((completed + 1, entry(dead, completed)))
+    found.append((completed + 1, entry_of(dead, completed)))
     return found
 
 
@@ -47,15 +41,8 @@ def span(policy):
     return sum(1 for living in policy[0][policy[1]:] if living > 0)
 
 
-def some_policies():
-    chance = random.Random(12)
-    for lives in TABLES:
-        for age in sorted({0, (len(lives) - 2) // 2, len(lives) - 2}):
-            for rate in RATES:
-                alive = tuple(chance.randint(-50, 100) for _ in range(chance.choice((0, 1, 3, 40))))
-                dead = tuple(chance.randint(-50, 1000) for _ in range(chance.choice((0, 1, 3, 40))))
-                premium = ratio(Fraction(chance.randint(-50, 300), chance.choice((1, 2, 7, 1000))))
-                yield (lives, age, rate, alive, dead, premium, chance.choice((0, 1, 2, 3, 40)))
+def every_policy():
+    return some_policies(12, TABLES, RATES)
 
 
 class PoliciesTest(Checks, unittest.TestCase):
@@ -67,13 +54,13 @@ class PoliciesTest(Checks, unittest.TestCase):
                           (((100, 3), (100, 3)), ((-100, 3), (100, 1)))])
 
     def test_worth_and_reserves_life_by_life(self):
-        for policy in some_policies():
+        for policy in every_policy():
             wanted = tuple(ratio(reserve(policy, time)) for time in range(span(policy)))
             self.same(reserves(policy), wanted)
             self.same(worth(policy), wanted[0])
 
     def test_fair_premium(self):
-        for policy in some_policies():
+        for policy in every_policy():
             if policy[6] == 0:
                 self.is_told(NoPremium, fair_premium, policy)
                 continue
@@ -83,29 +70,29 @@ class PoliciesTest(Checks, unittest.TestCase):
             self.same(fair_premium((*policy[:5], (-7, 3), policy[6])), found)
 
     def test_fund_life_by_life(self):
-        for policy in some_policies():
+        for policy in every_policy():
             lives, age, rate, alive, dead, premium, years = policy
             held, wanted = Fraction(0), []
             for time in range(span(policy)):
                 living = people(lives, age + time)
                 wanted.append(ratio(held / len(living)))
                 for left in living:
-                    held -= entry(alive, time)
+                    held -= entry_of(alive, time)
                     held += fraction(premium) if time < years else 0
                 held = grown(held, rate, 1)
                 for left in living:
-                    held -= entry(dead, time) if left == 0 else 0
+                    held -= entry_of(dead, time) if left == 0 else 0
             self.same(fund(policy), tuple(wanted))
 
     def test_fund_and_reserves(self):
-        for policy in some_policies():
+        for policy in every_policy():
             lives, age, rate = policy[:3]
             for time, (held, kept) in enumerate(zip(fund(policy), reserves(policy), strict=True)):
                 part = Fraction(lives[age + time], lives[age])
                 self.assertEqual(fraction(held), fraction(kept) - grown(fraction(worth(policy)), rate, time) / part)
 
     def test_split_premiums(self):
-        for policy in some_policies():
+        for policy in every_policy():
             lives, age, rate, alive, dead, premium, years = policy
             kept = [fraction(value) for value in reserves(policy)] + [Fraction(0)]
             pairs = split_premiums(policy)
@@ -114,12 +101,12 @@ class PoliciesTest(Checks, unittest.TestCase):
                 living = people(lives, age + time)
                 dying = Fraction(living.count(0), len(living))
                 self.same(saved, ratio(grown(kept[time + 1], rate, -1) - kept[time]))
-                self.same(risk, ratio(grown(dying * (entry(dead, time) - kept[time + 1]), rate, -1)))
-                paid = (fraction(premium) if time < years else 0) - entry(alive, time)
+                self.same(risk, ratio(grown(dying * (entry_of(dead, time) - kept[time + 1]), rate, -1)))
+                paid = (fraction(premium) if time < years else 0) - entry_of(alive, time)
                 self.assertEqual(fraction(saved) + fraction(risk), paid)
 
     def test_paid_up(self):
-        for policy in some_policies():
+        for policy in every_policy():
             for time in range(span(policy)):
                 promised = reserve(policy, time, premiums=False)
                 if promised == 0:
@@ -163,55 +150,19 @@ class PoliciesTest(Checks, unittest.TestCase):
 
 
 class ErrorsTest(Checks, unittest.TestCase):
-    good = ((4, 2, 1, 0), 1, (1, 10), (1, 2), (3, 4), (1, 2), 2)
+    good = GOOD_POLICY
 
-    def refuses_part(self, at, error, allowed):
-        """Every value of every kind as one part of a policy raises the error, unless it is allowed."""
-        for value in ANYTHING:
-            if not allowed(value):
-                policy = (*self.good[:at], value, *self.good[at + 1:])
-                with self.subTest(at=at, value=short(value)):
-                    for function in FUNCTIONS:
-                        self.is_told(error, function, policy)
-                    self.is_told(error, paid_up, policy, 0)
-                    self.is_told(error, paid_up, policy, None)
-
-    def test_no_policies(self):
-        values = [*ANYTHING, list(self.good), self.good[:6], (*self.good, 0), (self.good,), dict(enumerate(self.good))]
-        for value in values:
-            with self.subTest(value=short(value)):
-                for function in FUNCTIONS:
-                    self.is_told(BadPolicy, function, value)
-                self.is_told(BadPolicy, paid_up, value, 0)
-                self.is_told(BadPolicy, paid_up, value, "x")
-
-    def test_wrong_parts(self):
-        self.refuses_part(0, BadLives, is_lives)
-        self.refuses_part(1, BadAge, is_time(0, 2))
-        self.refuses_part(2, BadRate, is_rate)
-        self.refuses_part(3, BadPayments, is_payments)
-        self.refuses_part(4, BadPayments, is_payments)
-        self.refuses_part(5, BadPremium, lambda value: is_ratio(value) and abs(fraction(value)) <= 10**6 >= value[1])
-        self.refuses_part(6, BadTime, is_time(0, 40))
+    def test_wrong_policies(self):
+        for function in FUNCTIONS:
+            self.refuses_policies(function)
+        for time in (0, 99, None, "x"):
+            self.refuses_policies(paid_up, time)
 
     def test_limits_of_premiums(self):
         for premium in [(10**6, 1), (-10**6, 1), (1, 10**6), (-1, 10**6), (10**12 - 1, 10**6), (1 - 10**12, 10**6)]:
             self.assertTrue(is_ratio(worth((*self.good[:5], premium, 2))))
         for premium in [(10**6 + 1, 1), (-10**6 - 1, 1), (1, 10**6 + 1), (10**12 + 1, 10**6), (-10**12 - 1, 10**6)]:
             self.is_told(BadPremium, worth, (*self.good[:5], premium, 2))
-
-    def test_order_of_parts(self):
-        errors = [BadLives, BadAge, BadRate, BadPayments, BadPayments, BadPremium, BadTime]
-        bad = [(2, 1), 3, (-1, 1), (True,), [1], (2, 4), 41]
-        for first in range(7):
-            for second in range(first, 7):
-                policy = list(self.good)
-                policy[first], policy[second] = bad[first], bad[second]
-                for function in FUNCTIONS:
-                    self.is_told(errors[first], function, tuple(policy))
-            policy = (*self.good[:first], *bad[first:])
-            self.is_told(errors[first], worth, policy)
-            self.is_told(errors[first], paid_up, policy, 99)
 
     def test_no_premium_comes_last(self):
         for at, value, error in ((0, None, BadLives), (1, 3, BadAge), (5, 1, BadPremium)):
