@@ -170,7 +170,7 @@ def folded(one, other):
 
 
 def solution(rows, sums):
-    """Return the list of the only ratios whose products with each row of ratios have its sum."""
+    """Return the only list of ratios for which the sum of the products with each row is the sum asked for."""
     lines = [[*row, wanted] for row, wanted in zip(rows, sums)]
     many = len(lines)
     for at in range(many):

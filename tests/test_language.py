@@ -53,6 +53,15 @@ INTERFACE = {
                    "left_alone(companions, rate, index)"],
     "claims": ["mean_claim(claims)", "summed(claims, times)", "random_sum(counts, claims)",
                "binomial_sum(many, chance, claims, most)", "waiting_sum(many, chance, claims, most)"],
+    "orders": ["layer(claims, low, high)", "is_smaller(one, other)", "smaller_paper(one, other)",
+               "shows_ladder(one, other, value)", "is_safer(one, other)", "safer_witness(one, other)"],
+    "shortfalls": ["shortfall(claims, level)", "worst_view(claims, level)", "shows_view(claims, level, value)",
+                   "kept(claims, cover)", "cover_above(claims, edge)", "best_edge(claims, cover)"],
+    "ruin": ["ruin_within(claims, start, years)", "ruin_ever(claims, start)", "always_behind(claims, years)",
+             "deficits(claims)", "years_to_ruin(claims, cap, start)", "gifts_value(claims, cap, start, rate)",
+             "best_cap(claims, rate)"],
+    "triangles": ["factors(triangle)", "ultimates(triangle)", "spreads(triangle)", "marginal_fit(triangle)",
+                  "shows_fit(triangle, value)"],
 }
 
 
