@@ -1,5 +1,6 @@
-"""Integers, ratios, interest rates, times and chances, on which all other files rest."""
+"""Integers, ratios, interest rates, times and chances, and sums of ratios, on which all other files rest."""
 
+from itertools import combinations
 from math import gcd, lcm
 
 from actuarium.errors import BadChance, BadRate, BadTime
@@ -19,6 +20,11 @@ def is_between(value, low, high):
     return is_integer(value) and low <= value <= high
 
 
+def is_filled(value, low, high):
+    """Tell whether a value is a tuple of at least `low` and at most `high` things."""
+    return isinstance(value, tuple) and low <= len(value) <= high
+
+
 def is_row(value, many, low, high):
     """Tell whether a value is a tuple of so many integers from low to high."""
     return isinstance(value, tuple) and len(value) == many and all(is_between(entry, low, high) for entry in value)
@@ -30,6 +36,16 @@ def is_ratio(value):
         return False
     top, bottom = value
     return is_integer(top) and is_integer(bottom) and bottom > 0 and gcd(top, bottom) == 1
+
+
+def are_ratios(value, many):
+    """Tell whether a value is a tuple of so many ratios."""
+    return isinstance(value, tuple) and len(value) == many and all(is_ratio(entry) for entry in value)
+
+
+def has_small_parts(value, most):
+    """Tell whether a value is a ratio with a top and a bottom of at most `most` in absolute value."""
+    return is_ratio(value) and abs(value[0]) <= most and value[1] <= most
 
 
 def is_small_ratio(value, low, high, most):
@@ -45,9 +61,14 @@ def is_chance(value):
     return is_small_ratio(value, 0, 1, MOST_BOTTOM)
 
 
+def is_rate(value):
+    """Tell whether a value is an interest rate."""
+    return has_small_parts(value, 1000) and value[0] > -value[1]
+
+
 def check_rate(rate):
     """Raise BadRate for a value that is not an interest rate."""
-    if not is_ratio(rate) or abs(rate[0]) > 1000 or rate[1] > 1000 or rate[0] <= -rate[1]:
+    if not is_rate(rate):
         raise BadRate("an interest rate is a small ratio greater than -1")
 
 
@@ -76,6 +97,11 @@ def make_ratio(top, bottom):
     if bottom < 0:
         shared = -shared
     return (top // shared, bottom // shared)
+
+
+def wholes(integers):
+    """Return the list of some integers as ratios."""
+    return [(integer, 1) for integer in integers]
 
 
 def plus(one, other):
@@ -109,6 +135,11 @@ def total(ratios):
     for ratio in ratios:
         found = plus(found, ratio)
     return found
+
+
+def mixed(parts, values):
+    """Return the sum of some values, each one multiplied by its part."""
+    return total([multiplied(part, value) for part, value in zip(parts, values)])
 
 
 def power(ratio, times):
@@ -187,6 +218,59 @@ def solution(rows, sums):
 def less_multiple(line, factor, other):
     """Return a line of ratios less a multiple of another one."""
     return [minus(entry, multiplied(factor, second)) for entry, second in zip(line, other)]
+
+
+def free_rows(rows):
+    """Return the list of the indexes of the rows that are not mixed from the rows before them."""
+    free, lines = [], []
+    for index, row in enumerate(rows):
+        for lead, line in lines:
+            row = less_multiple(row, row[lead], line)
+        filled = [at for at, entry in enumerate(row) if entry != ZERO]
+        if filled:
+            first = filled[0]
+            lines.append((first, [divided(entry, row[first]) for entry in row]))
+            free.append(index)
+    return free
+
+
+def placed(values, places, many):
+    """Return the list of so many ratios with the values at their places and 0 elsewhere."""
+    found = [ZERO] * many
+    for value, place in zip(values, places):
+        found[place] = value
+    return found
+
+
+def best_mix(rows, sums, gains):
+    """Return the pair of the parts from 0 on with the greatest gain that mix each row to its sum, and of prices.
+
+    There is a price for each row. Mixed by the prices no column is less than its gain, and the sums are the greatest
+    gain, so that the prices show that it is the greatest one. If there is none, None is returned.
+    """
+    free = free_rows(rows)
+    # If there is a greatest gain, some columns, as many as there are free rows, give both the parts and the prices.
+    for columns in combinations(range(len(gains)), len(free)):
+        square = [[rows[at][column] for column in columns] for at in free]
+        if len(free_rows(square)) == len(free):
+            parts = placed(solution(square, [sums[at] for at in free]), columns, len(gains))
+            turned = [list(line) for line in zip(*square)]
+            prices = placed(solution(turned, [gains[column] for column in columns]), free, len(rows))
+            if are_parts(rows, sums, parts) and are_prices(rows, gains, prices):
+                return (parts, prices)
+    return None
+
+
+def are_parts(rows, sums, parts):
+    """Tell whether no part is negative and the parts mix each row to its sum."""
+    if any(part[0] < 0 for part in parts):
+        return False
+    return all(mixed(parts, row) == wanted for row, wanted in zip(rows, sums))
+
+
+def are_prices(rows, gains, prices):
+    """Tell whether no column is less than its gain if the prices mix it."""
+    return not any(is_less(mixed(prices, column), gain) for column, gain in zip(zip(*rows), gains))
 
 
 def is_triple(value, starts, goals):

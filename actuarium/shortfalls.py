@@ -2,7 +2,7 @@
 
 from actuarium.claims import chances_of, check_claims
 from actuarium.errors import BadCover
-from actuarium.ratios import ONE, ZERO, check_level, check_time, divided, earliest, is_between, is_less, is_ratio
+from actuarium.ratios import ONE, ZERO, are_ratios, check_level, check_time, divided, earliest, is_between, is_less
 from actuarium.ratios import minus, multiplied, sum_above, total
 
 MOST_EDGE = 20
@@ -39,7 +39,7 @@ def worst_view(claims, level):
 
 def are_entries(value, many, level):
     """Tell whether a value is a tuple of so many ratios from 0 to 1 divided by (1 less the level)."""
-    if not isinstance(value, tuple) or len(value) != many or not all(is_ratio(entry) for entry in value):
+    if not are_ratios(value, many):
         return False
     most = divided(ONE, minus(ONE, level))
     return not any(is_less(entry, ZERO) or is_less(most, entry) for entry in value)

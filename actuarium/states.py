@@ -1,7 +1,7 @@
 """Models of states and steps: what is paid on the way, what it is worth, and how likely each state is."""
 
 from actuarium.errors import BadModel, BadState
-from actuarium.ratios import ONE, ZERO, discount, make_ratio, minus, multiplied, plus, total
+from actuarium.ratios import ONE, ZERO, discount, make_ratio, minus, mixed, multiplied, plus, wholes
 from actuarium.ratios import check_rate, is_between, is_row
 
 MOST_STEPS = 8
@@ -59,7 +59,7 @@ def check_state(model, state):
 
 def expected(weights, values):
     """Return the expected one of some values whose chances have these weights."""
-    return total([multiplied(make_ratio(weight, sum(weights)), value) for weight, value in zip(weights, values)])
+    return mixed([make_ratio(weight, sum(weights)) for weight in weights], values)
 
 
 def gains(model, time, state, later):
@@ -68,15 +68,25 @@ def gains(model, time, state, later):
     return [plus((paid, 1), value) for paid, value in zip(moved, later)]
 
 
-def value_rows(model, rate):
-    """Return the list of the expected values of all that is still to be paid, time by time and state by state."""
+def values_before(model, rate, time, later):
+    """Return the list of the expected values at a time, state by state, from those a year later."""
     steps, (staying, _) = model
     back = discount(rate)
-    values = [(paid, 1) for paid in staying[-1]]
+    ends = [expected(row, gains(model, time, state, later)) for state, row in enumerate(steps[time])]
+    return [plus((paid, 1), multiplied(back, end)) for paid, end in zip(staying[time], ends)]
+
+
+def last_paid(model):
+    """Return the list of what is paid in each state at the last time."""
+    return wholes(model[1][0][-1])
+
+
+def value_rows(model, rate):
+    """Return the list of the expected values of all that is still to be paid, time by time and state by state."""
+    values = last_paid(model)
     rows = [tuple(values)]
-    for time in reversed(range(len(steps))):
-        ends = [expected(row, gains(model, time, state, values)) for state, row in enumerate(steps[time])]
-        values = [plus((paid, 1), multiplied(back, end)) for paid, end in zip(staying[time], ends)]
+    for time in reversed(range(len(model[0]))):
+        values = values_before(model, rate, time, values)
         rows.append(tuple(values))
     return rows[::-1]
 

@@ -1,7 +1,8 @@
 """Triangles of claims: how they develop, what they come to in the end, and how far rows stray."""
 
 from actuarium.errors import BadTriangle
-from actuarium.ratios import ONE, ZERO, all_multiplied, divided, is_ratio, is_row, make_ratio, minus, multiplied, total
+from actuarium.ratios import ONE, ZERO, all_multiplied, are_ratios, divided, is_row, make_ratio, minus, multiplied
+from actuarium.ratios import total
 
 MOST_ROWS = 6
 MOST_PAID = 1000000
@@ -59,11 +60,6 @@ def marginal_fit(triangle):
     """Return the pair of the ultimates and of the parts with which all sums of rows and columns fit."""
     check_triangle(triangle)
     return (tuple(ultimate_list(triangle)), tuple(part_list(triangle)))
-
-
-def are_ratios(value, many):
-    """Tell whether a value is a tuple of so many ratios."""
-    return isinstance(value, tuple) and len(value) == many and all(is_ratio(entry) for entry in value)
 
 
 def sums_fit(lines, factors_along, factors_across):

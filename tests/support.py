@@ -164,6 +164,21 @@ POLICY_PARTS = [
 ]
 
 
+def bad_thing(value, low, high, is_good):
+    """The index that the error for a value names which should be so many good things; False if there is no error."""
+    if type(value) is not tuple or not low <= len(value) <= high:
+        return None
+    return next((at for at, thing in enumerate(value) if not is_good(thing)), False)
+
+
+def is_pair(value):
+    return type(value) is tuple and len(value) == 2
+
+
+def is_row(value, many, low, high):
+    return type(value) is tuple and len(value) == many and all(is_int(entry, low, high) for entry in value)
+
+
 def entry_of(payments, time):
     return Fraction(payments[time]) if time < len(payments) else Fraction(0)
 
@@ -233,6 +248,35 @@ class Checks:
                 changed = replaced(good, path, value)
                 if not is_claims(changed, most):
                     self.is_told(BadClaims, function, *replaced(tuple(arguments), (at,), changed))
+
+    def refuses_things(self, calls, good, error, bad_index, more=()):
+        """Whatever is no such tuple as the first argument raises the error with the index of its first bad thing."""
+        changed = [replaced(good, path, value) for path in places(good) for value in ANYTHING]
+        refused = 0
+        for value in [*ANYTHING, list(good), dict(enumerate(good)), (good,), [*good, None], (*good, None), *changed, *more]:
+            index = bad_index(value)
+            if index is not False:
+                for function, rest in calls:
+                    with self.subTest(function=function.__name__, value=short(value)):
+                        self.is_told(error, function, value, *rest, index=index)
+                        self.is_told(error, function, value, *[None for _ in rest], index=index)
+                refused += 1
+        self.assertGreater(refused, len(ANYTHING))
+
+    def judges(self, shows, is_shown, good, *arguments):
+        """Values of every kind, whole and in each part of a good one, are told apart as a slow second way does."""
+        self.assertIs(is_shown(*arguments, good), True)
+        self.same(shows(*arguments, good), True)
+        alone = [*ANYTHING, list(good), dict(enumerate(good)), (good,), [good], (*good, None), {"good": good}]
+        changed = [replaced(good, path, value) for path in places(good) if path for value in [*ANYTHING, [good], {1: good}]]
+        wrapped = [tuple([value] * len(good)) for value in ANYTHING]
+        refused = 0
+        for value in alone + changed + wrapped:
+            with self.subTest(value=short(value)):
+                shown = is_shown(*arguments, value)
+                self.same(shows(*arguments, value), shown)
+                refused += not shown
+        self.assertGreater(refused, 2 * len(ANYTHING))
 
     def first_error_wins(self, function, arguments, faults):
         """With any choice of bad arguments at once the error of the leftmost one is raised."""

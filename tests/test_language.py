@@ -23,7 +23,8 @@ METHODS = """append clear copy count endswith extend find get index insert isaln
 items join keys ljust lower lstrip partition pop remove replace reverse rfind rjust rpartition rsplit rstrip setdefault
 split splitlines startswith strip update upper values zfill bit_length""".split()
 LAZY = ["zip", "enumerate", "reversed", "range", "map"]
-EATERS = ["list", "tuple", "dict", "sorted", "sum", "any", "all", "enumerate", "zip", "min", "max", "join", "reversed", "len"]
+EATERS = ["list", "tuple", "dict", "sorted", "sum", "any", "all", "enumerate", "zip", "min", "max", "join", "reversed", "len",
+          "combinations"]
 BARRED_NAMES = """register mro elements open input law version_info with_traceback add_note attrgetter breakpoint builtins
 compile copyright credits delattr dir eval exec exit gc getattr globals hasattr help id importlib license locals
 methodcaller os quit setattr type vars sys""".split()
@@ -62,6 +63,13 @@ INTERFACE = {
              "best_cap(claims, rate)"],
     "triangles": ["factors(triangle)", "ultimates(triangle)", "spreads(triangle)", "marginal_fit(triangle)",
                   "shows_fit(triangle, value)"],
+    "markets": ["worths(market)", "free_lunch(market)", "shows_worths(market, value)", "shows_lunch(market, value)",
+                "cheapest_cover(market, wanted)", "dearest_worths(market, wanted)"],
+    "learning": ["kinds_after(prior, seen)", "expected_after(prior, seen)", "fair_weight(prior, years)",
+                 "linear_after(prior, seen)"],
+    "estimates": ["product_limit(records)", "smoothed(rates, weights, order, strength)"],
+    "stopping": ["best_values(model, rate, offers)", "stop_times(model, rate, offers)", "corrections(model, rate, offers)",
+                 "shows_corrections(model, rate, offers, value)"],
 }
 
 
