@@ -70,7 +70,14 @@ INTERFACE = {
     "estimates": ["product_limit(records)", "smoothed(rates, weights, order, strength)"],
     "stopping": ["best_values(model, rate, offers)", "stop_times(model, rate, offers)", "corrections(model, rate, offers)",
                  "shows_corrections(model, rate, offers, value)"],
+    "pools": ["pool_shortfall(outcomes, members, level)", "shares(outcomes, level)", "shows_shares(outcomes, level, value)"],
+    "bounds": ["worst_chances(top, facts, paid)", "bound_paper(top, facts, paid)", "shows_bound(top, facts, paid, value)"],
+    "scales": ["steady_classes(scale, counts)", "fair_levels(scale, prior)", "mean_level(scale, counts)",
+               "hunger(scale, claims, years, rate)"],
+    "curves": ["value_on_curve(payments, curve)", "par_rates(curve)", "from_pars(pars)"],
 }
+METHODS_OF_LEDGER = ["__init__(self, lives, rate)", "put(self, name, entry)", "drop(self, name)", "get(self, name)", "names(self)",
+                     "undo(self)", "age_on(self)", "worth_of_all(self)", "flows(self)", "least_change(self, wanted)"]
 
 
 def tree_of(file):
@@ -181,7 +188,7 @@ class LanguageTest(unittest.TestCase):
             for node in ast.walk(tree):
                 if isinstance(node, ast.ClassDef):
                     self.assertEqual(node.decorator_list, [])
-                    self.assertEqual(len(node.bases), 1)
+                    self.assertEqual(len(node.bases), 0 if node.name == "Ledger" else 1)
 
     def test_l6_l7_statements_and_expressions(self):
         for _, tree in self.each():
@@ -257,8 +264,10 @@ class LanguageTest(unittest.TestCase):
                 if not isinstance(node, ast.Call):
                     continue
                 if isinstance(node.func, ast.Attribute):
+                    own = [function.name for function in functions_of(tree)]
+                    of_self = isinstance(node.func.value, ast.Name) and node.func.value.id == "self"
                     allowed = METHODS if called(node) != "__init__" else ["__init__"]
-                    self.assertIn(called(node), allowed)
+                    self.assertIn(called(node), own if of_self else allowed)
                     self.assertEqual(node.keywords, [])
                 else:
                     self.assertIsInstance(node.func, ast.Name)
@@ -294,15 +303,22 @@ class LanguageTest(unittest.TestCase):
 
 
 class InterfaceTest(unittest.TestCase):
+    def stand_in(self, body, calls):
+        defined = {node.name: node for node in body if isinstance(node, ast.FunctionDef)}
+        for call in calls:
+            name, arguments = call.rstrip(")").split("(")
+            found = defined[name].args
+            self.assertEqual(", ".join(argument.arg for argument in found.args), arguments, call)
+            self.assertEqual([found.defaults, found.kwonlyargs, found.vararg, found.kwarg], [[], [], None, None])
+
     def test_functions_stand_where_they_are_listed(self):
         for stem, calls in INTERFACE.items():
-            tree = tree_of(FOLDER / f"{stem}.py")
-            defined = {node.name: node for node in tree.body if isinstance(node, ast.FunctionDef)}
-            for call in calls:
-                name, arguments = call.rstrip(")").split("(")
-                found = defined[name].args
-                self.assertEqual(", ".join(argument.arg for argument in found.args), arguments, call)
-                self.assertEqual([found.defaults, found.kwonlyargs, found.vararg, found.kwarg], [[], [], None, None])
+            self.stand_in(tree_of(FOLDER / f"{stem}.py").body, calls)
+
+    def test_methods_stand_in_the_class_itself(self):
+        classes = [node for node in tree_of(FOLDER / "ledger.py").body if isinstance(node, ast.ClassDef)]
+        self.assertEqual([node.name for node in classes], ["Ledger"])
+        self.stand_in(classes[0].body, METHODS_OF_LEDGER)
 
 
 if __name__ == "__main__":
